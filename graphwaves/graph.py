@@ -1,14 +1,14 @@
 """Graphs: edges out of the numbers that tell them, and which cells touch."""
 
 
+def edge_between(a, b):
+    """Write the edge between two cells down, the lesser cell first."""
+    return (min(a, b), max(a, b))
+
+
 def edges_told(numbers):
-    """Take each two numbers as an edge, the lesser cell first."""
-    edges = []
-    for place in range(0, len(numbers), 2):
-        a = numbers[place]
-        b = numbers[place + 1]
-        edges.append((min(a, b), max(a, b)))
-    return edges
+    """Take each two numbers as an edge."""
+    return [edge_between(numbers[place], numbers[place + 1]) for place in range(0, len(numbers), 2)]
 
 
 def are_proper(edges):

@@ -4,8 +4,11 @@ from graphwaves.calls import answer_call
 from graphwaves.wave import Wave
 
 # How many whole numbers stand behind the number of each call, its list left out.
-HOW_MANY = {0: 1, 1: 0, 2: 1, 3: 0, 4: 0, 5: 1, 6: 0, 7: 0, 8: 2, 9: 0, 10: 0}
-WITH_LIST = (0, 3, 9)
+HOW_MANY = {
+    0: 1, 1: 0, 2: 1, 3: 0, 4: 0, 5: 1, 6: 0, 7: 0, 8: 2, 9: 0, 10: 0,
+    11: 0, 12: 2, 13: 0, 14: 0, 15: 2, 16: 1, 17: 1, 18: 2, 19: 0, 20: 1, 21: 0,
+}
+WITH_LIST = (0, 3, 9, 21)
 
 
 def answers(calls):

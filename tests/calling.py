@@ -4,7 +4,8 @@ from graphwaves.waves import answers
 
 NUMBERS = {
     "graph": 0, "told": 1, "kind": 2, "set": 3, "config": 4, "run": 5, "counts": 6, "time": 7,
-    "lean": 8, "walk": 9, "heights": 10,
+    "lean": 8, "walk": 9, "heights": 10, "windings": 11, "ring": 12, "lives": 13, "end": 14, "best": 15,
+    "speed": 16, "course": 17, "ball": 18, "parts": 19, "turn": 20, "rename": 21,
 }
 
 LEAST = -9223372036854775808
